@@ -2,10 +2,14 @@
 package names
 
 import (
+	"iter"
 	"strings"
 
 	"signpost/api"
 )
+
+// Root is the name without labels.
+const Root = ""
 
 const (
 	dot     = "."
@@ -33,7 +37,7 @@ func Valid(s string) bool {
 // Labels takes a name apart; the root has no labels.
 func Labels(name string) []string {
 	// Split would make one empty label of the root.
-	if name == "" {
+	if name == Root {
 		return nil
 	}
 	return strings.Split(name, dot)
@@ -42,6 +46,33 @@ func Labels(name string) []string {
 // Join puts a name together of its labels.
 func Join(labels ...string) string {
 	return strings.Join(labels, dot)
+}
+
+// Above goes through the names above a name, the nearest first and the root
+// last; above the root there is none.
+func Above(name string) iter.Seq[string] {
+	return func(yield func(string) bool) {
+		labels := Labels(name)
+		for i := range labels {
+			if !yield(Join(labels[i+1:]...)) {
+				return
+			}
+		}
+	}
+}
+
+// Upward goes through a name and the names above it.
+func Upward(name string) iter.Seq[string] {
+	return func(yield func(string) bool) {
+		if !yield(name) {
+			return
+		}
+		for above := range Above(name) {
+			if !yield(above) {
+				return
+			}
+		}
+	}
 }
 
 func isLabel(s string) bool {

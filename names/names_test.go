@@ -1,6 +1,7 @@
 package names
 
 import (
+	"iter"
 	"slices"
 	"strings"
 	"testing"
@@ -36,6 +37,49 @@ func TestLabelsAndJoin(t *testing.T) {
 		}
 		if name := Join(c.labels...); name != c.name {
 			t.Errorf("Join(%q) = %q, want %q", c.labels, name, c.name)
+		}
+	}
+}
+
+func TestAboveAndUpward(t *testing.T) {
+	for _, c := range []struct {
+		name  string
+		above []string
+	}{
+		{"", nil}, {"a", []string{""}}, {"a.bc", []string{"bc", ""}}, {"a.a.a", []string{"a.a", "a", ""}},
+		{"a.b.c.d.e", []string{"b.c.d.e", "c.d.e", "d.e", "e", ""}},
+	} {
+		if above := slices.Collect(Above(c.name)); !slices.Equal(above, c.above) {
+			t.Errorf("Above(%q) = %q, want %q", c.name, above, c.above)
+		}
+		upward := append([]string{c.name}, c.above...)
+		if got := slices.Collect(Upward(c.name)); !slices.Equal(got, upward) {
+			t.Errorf("Upward(%q) = %q, want %q", c.name, got, upward)
+		}
+	}
+}
+
+// Whoever goes through names may stop at any of them, and begin again.
+func TestAboveAndUpwardStop(t *testing.T) {
+	above, upward := Above("a.b.c.d.e"), Upward("a.b.c.d.e")
+	for stop := 1; stop <= 5; stop++ {
+		if got := slices.Collect(first(stop, above)); !slices.Equal(got, []string{"b.c.d.e", "c.d.e", "d.e", "e", ""}[:stop]) {
+			t.Errorf("the first %d names above are %q", stop, got)
+		}
+		if got := slices.Collect(first(stop, upward)); !slices.Equal(got, []string{"a.b.c.d.e", "b.c.d.e", "c.d.e", "d.e", "e"}[:stop]) {
+			t.Errorf("the first %d names upward are %q", stop, got)
+		}
+	}
+}
+
+func first(count int, all iter.Seq[string]) iter.Seq[string] {
+	return func(yield func(string) bool) {
+		left := count
+		for name := range all {
+			left--
+			if !yield(name) || left == 0 {
+				return
+			}
 		}
 	}
 }

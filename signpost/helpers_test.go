@@ -3,6 +3,7 @@ package signpost_test
 import (
 	"fmt"
 	"reflect"
+	"slices"
 	"testing"
 
 	"signpost/api"
@@ -96,5 +97,78 @@ func wantNoMessage(t *testing.T, s string) {
 	t.Helper()
 	if m, e := signpost.Decode(s); !reflect.DeepEqual(m, api.Message{}) || e != api.ErrForm {
 		t.Errorf("Decode(%.300q) = %+v, %d, want ErrForm", s, m, e)
+	}
+}
+
+// settings are those of a resolver with these hints, two tries and a patience
+// of three ticks.
+func settings(hints ...int) api.Config {
+	return api.Config{Hints: hints, Entries: 8, Tries: 2, Patience: 3, MaxTtl: 100}
+}
+
+func made(t *testing.T, c api.Config) *signpost.Resolver {
+	t.Helper()
+	x, e := signpost.New(c)
+	if x == nil || e != api.OK {
+		t.Fatalf("New(%+v) = %v, %d", c, x, e)
+	}
+	return x
+}
+
+func bytesOf(t *testing.T, m api.Message) string {
+	t.Helper()
+	s, e := signpost.Encode(m)
+	if e != api.OK {
+		t.Fatalf("Encode(%s) = %d", short(m), e)
+	}
+	return s
+}
+
+func question(t *testing.T, id int, name string, kind int) string {
+	t.Helper()
+	return bytesOf(t, api.Message{ID: id, Name: name, Type: kind})
+}
+
+func packet(t *testing.T, address, id int, name string, kind int) api.Packet {
+	t.Helper()
+	return api.Packet{Address: address, Bytes: question(t, id, name, kind)}
+}
+
+func failed(t *testing.T, number, id int, name string, kind int) api.Reply {
+	t.Helper()
+	return api.Reply{Number: number, Bytes: bytesOf(t, api.Message{ID: id, Reply: true, Code: api.Failed, Name: name, Type: kind})}
+}
+
+func ticks(x *signpost.Resolver, count int) {
+	for range count {
+		x.Tick()
+	}
+}
+
+func wantAsk(t *testing.T, x *signpost.Resolver, s string, number int) {
+	t.Helper()
+	if n, e := x.Ask(s); n != number || e != api.OK {
+		t.Errorf("Ask(%.60q) = %d, %d, want %d", s, n, e, number)
+	}
+}
+
+func wantNoAsk(t *testing.T, x *signpost.Resolver, s string, want api.Errno) {
+	t.Helper()
+	if n, e := x.Ask(s); n != 0 || e != want {
+		t.Errorf("Ask(%.60q) = %d, %d, want 0, %d", s, n, e, want)
+	}
+}
+
+func wantSent(t *testing.T, x *signpost.Resolver, from int, want ...api.Packet) {
+	t.Helper()
+	if got := x.Sent(from); !slices.Equal(got, want) {
+		t.Errorf("Sent(%d) = %+v, want %+v", from, got, want)
+	}
+}
+
+func wantReplies(t *testing.T, x *signpost.Resolver, from int, want ...api.Reply) {
+	t.Helper()
+	if got := x.Replies(from); !slices.Equal(got, want) {
+		t.Errorf("Replies(%d) = %+v, want %+v", from, got, want)
 	}
 }

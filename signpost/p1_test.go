@@ -127,3 +127,92 @@ func FuzzDecode(f *testing.F) {
 	f.Add("")
 	f.Fuzz(func(t *testing.T, s string) { checkDecode(t, s) })
 }
+
+// checkAsk holds what Ask answers, at any bytes, against what P1 and P5 say.
+func checkAsk(t *testing.T, s string) {
+	t.Helper()
+	x := made(t, settings(9))
+	n, e := x.Ask(s)
+	if n != 0 {
+		t.Errorf("P1: Ask(%.300q) = %d, %d", s, n, e)
+	}
+	if wantsReply := len(s) >= 4 && s[2] == 'q'; wantsReply != (e == api.OK) || !wantsReply && e != api.ErrShort {
+		t.Errorf("P5: Ask(%.300q) answers %d", s, e)
+	}
+	sent, replies := x.Sent(0), x.Replies(0)
+	if e != api.OK {
+		if len(sent)+len(replies) != 0 {
+			t.Errorf("P1: Ask(%.300q) answers %d and does something", s, e)
+		}
+		return
+	}
+	m, e := signpost.Decode(s)
+	if e == api.OK && m.Code == 0 && len(m.Answer)+len(m.Servers)+len(m.More) == 0 && 1 <= m.Type && m.Type <= 3 {
+		wantSent(t, x, 0, packet(t, 9, 1, m.Name, m.Type))
+		wantReplies(t, x, 0)
+	} else {
+		wantSent(t, x, 0)
+		wantReplies(t, x, 0, broken(0, s[:2]))
+	}
+}
+
+func TestP1AskOfChangedBytes(t *testing.T) {
+	for _, s := range []string{"\x05\x01q\x00\x01a\x02bc\x00\x01\x00\x00\x00", strings.Replace(sampleBytes, "r\x03", "q\x00", 1)} {
+		checkAsk(t, s)
+		for i := range len(s) {
+			for b := range 256 {
+				checkAsk(t, s[:i]+string([]byte{byte(b)})+s[i+1:])
+				checkAsk(t, s[:i]+string([]byte{byte(b)})+s[i:])
+			}
+			checkAsk(t, s[:i])
+			checkAsk(t, s[i:])
+		}
+	}
+}
+
+func TestP1AskOfLongTexts(t *testing.T) {
+	for _, part := range []string{"\x00", "q", "\x01a", "\xff", "ä", sampleBytes} {
+		text := strings.Repeat(part, 1<<20)
+		checkAsk(t, text)
+		checkAsk(t, "\x00\x00q\x00"+text)
+	}
+}
+
+func TestP1CallsOfAResolverLeaveNoGoroutine(t *testing.T) {
+	before := runtime.NumGoroutine()
+	x := made(t, settings(9, 8))
+	for range 100 {
+		x.Ask(question(t, 5, "a.b", 1))
+		x.Ask("\x05\x01q-")
+		x.Ask("")
+		x.Deliver()
+		x.Tick()
+		x.Sent(0)
+		x.Replies(0)
+		x.Entries()
+	}
+	if after := runtime.NumGoroutine(); after > before {
+		t.Errorf("P1: %d goroutines before the calls, %d after them", before, after)
+	}
+}
+
+// An error changes nothing: with and without calls that are refused, all goes
+// the same way.
+func TestP1ErrorsChangeNothing(t *testing.T) {
+	x, y := made(t, settings(9, 8)), made(t, settings(9, 8))
+	for i := range 40 {
+		n, e := x.Ask(question(t, i, "a", 1))
+		wantNoAsk(t, y, "\x00\x00q", api.ErrShort)
+		wantNoAsk(t, y, "\x00\x00r\x00", api.ErrShort)
+		if e == api.OK {
+			wantAsk(t, y, question(t, i, "a", 1), n)
+		} else {
+			wantNoAsk(t, y, question(t, i, "b", 2), e)
+			wantNoAsk(t, y, "\x00\x00q\x00", e)
+		}
+		x.Tick()
+		y.Tick()
+		wantSent(t, y, 0, x.Sent(0)...)
+		wantReplies(t, y, 0, x.Replies(0)...)
+	}
+}

@@ -2,6 +2,7 @@ package wire
 
 import (
 	"signpost/api"
+	"signpost/bounds"
 	"signpost/names"
 )
 
@@ -14,6 +15,20 @@ func Decode(s string) (m api.Message, e api.Errno) {
 	}()
 	r := reader{bytes: s}
 	return r.message(), api.OK
+}
+
+// QuestionID tells the ID of bytes that begin as a question's do: enough to
+// reply to, even if the rest is not a message's.
+func QuestionID(s string) (int, bool) {
+	if len(s) < beginning {
+		return 0, false
+	}
+	r := reader{bytes: s}
+	id := r.twoBytes()
+	if r.oneByte() != question {
+		return 0, false
+	}
+	return id, true
 }
 
 // notAMessage is what the reader gives up with.
@@ -72,7 +87,7 @@ func (r *reader) record() api.Record {
 	record.Name = r.name()
 	record.Type = r.number(api.Address, api.Bound)
 	record.Ttl = r.twoBytes()
-	must(between(1, record.Ttl, api.MaxTtl))
+	must(bounds.Between(1, record.Ttl, api.MaxTtl))
 	switch record.Type {
 	case api.Address:
 		record.Number = r.oneByte()
@@ -114,7 +129,7 @@ func (r *reader) labelsBelow(began int) []string {
 }
 
 func (r *reader) label(length int) string {
-	must(between(1, length, api.MaxLabel))
+	must(bounds.Between(1, length, api.MaxLabel))
 	letters := make([]byte, length)
 	for i := range letters {
 		letters[i] = r.smallLetter()
@@ -133,7 +148,7 @@ func (r *reader) smallLetter() byte {
 
 func (r *reader) number(least, most int) int {
 	n := r.oneByte()
-	must(between(least, n, most))
+	must(bounds.Between(least, n, most))
 	return n
 }
 

@@ -3,6 +3,7 @@ package wire
 
 import (
 	"signpost/api"
+	"signpost/bounds"
 	"signpost/names"
 )
 
@@ -10,18 +11,21 @@ const (
 	question = 'q'
 	reply    = 'r'
 
+	// beginning is how many bytes stand ahead of the name.
+	beginning = 4
+
 	nameEnd    = 0
 	nameGoesOn = 255
-
-	maxID     = 65535
-	maxNumber = 255
 )
 
+// MaxID is the greatest ID of a message.
+const MaxID = 65535
+
 func isMessage(m api.Message) bool {
-	return between(0, m.ID, maxID) &&
-		between(api.Fine, m.Code, api.Unknown) &&
+	return bounds.Between(0, m.ID, MaxID) &&
+		bounds.Between(api.Fine, m.Code, api.Unknown) &&
 		names.Valid(m.Name) &&
-		between(0, m.Type, api.Bound) &&
+		bounds.Between(0, m.Type, api.Bound) &&
 		isList(m.Answer...) && isList(m.Servers...) && isList(m.More...)
 }
 
@@ -38,21 +42,17 @@ func isList(records ...api.Record) bool {
 }
 
 func isRecord(r api.Record) bool {
-	return names.Valid(r.Name) && between(1, r.Ttl, api.MaxTtl) && saysWhatItMay(r)
+	return names.Valid(r.Name) && bounds.Between(1, r.Ttl, api.MaxTtl) && saysWhatItMay(r)
 }
 
 func saysWhatItMay(r api.Record) bool {
 	switch r.Type {
 	case api.Address:
-		return between(0, r.Number, maxNumber) && r.Target == ""
+		return bounds.IsAddress(r.Number) && r.Target == ""
 	case api.Server, api.Alias:
 		return r.Number == 0 && names.Valid(r.Target)
 	case api.Bound:
 		return r.Number == 0 && r.Target == ""
 	}
 	return false
-}
-
-func between(least, n, most int) bool {
-	return least <= n && n <= most
 }
