@@ -9,6 +9,16 @@ import (
 	"signpost/api"
 )
 
+// The ranks of entries.
+const (
+	AlongTheWay = 1
+	Answer      = 2
+)
+
+// NoSuchName is the type of an entry that says that there is no such name at
+// all.
+const NoSuchName = 0
+
 // Memory holds entries, one at most of a name and type.
 type Memory struct {
 	room    int

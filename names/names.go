@@ -75,6 +75,16 @@ func Upward(name string) iter.Seq[string] {
 	}
 }
 
+// Within tells whether a name is another one, or that one is above it.
+func Within(name, other string) bool {
+	for upward := range Upward(name) {
+		if upward == other {
+			return true
+		}
+	}
+	return false
+}
+
 func isLabel(s string) bool {
 	if len(s) < 1 || len(s) > api.MaxLabel {
 		return false

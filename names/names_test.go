@@ -72,6 +72,20 @@ func TestAboveAndUpwardStop(t *testing.T) {
 	}
 }
 
+func TestWithin(t *testing.T) {
+	for _, c := range []struct {
+		name, other string
+		want        bool
+	}{
+		{"", "", true}, {"a", "", true}, {"a", "a", true}, {"b.a", "a", true}, {"c.b.a", "a", true}, {"c.b.a", "b.a", true}, {"a.b.c.d.e", "", true}, {"a.b.c.d.e", "a.b.c.d.e", true},
+		{"", "a", false}, {"a", "b", false}, {"a", "b.a", false}, {"ba", "a", false}, {"b.ba", "a", false}, {"a.b", "a", false}, {"c.b.a", "c.b", false}, {"c.b.a", "a.a", false},
+	} {
+		if got := Within(c.name, c.other); got != c.want {
+			t.Errorf("Within(%q, %q) = %v", c.name, c.other, got)
+		}
+	}
+}
+
 func first(count int, all iter.Seq[string]) iter.Seq[string] {
 	return func(yield func(string) bool) {
 		left := count

@@ -19,7 +19,6 @@ type Resolver struct {
 	world   task.World
 	tasks   []*task.Task // those that wait, in the order in which they were begun
 	asked   int
-	lastID  int
 	sent    []api.Packet
 	replies []api.Reply
 }
@@ -30,7 +29,7 @@ func New(c api.Config) (*Resolver, api.Errno) {
 		return nil, api.ErrArg
 	}
 	c.Hints = tail(c.Hints, 0)
-	return &Resolver{world: task.World{Config: c, Memory: memory.New(c.Entries)}}, api.OK
+	return &Resolver{world: task.World{Config: c, Memory: memory.New(c.Entries), NextID: firstID}}, api.OK
 }
 
 // Ask takes a question of a client (P5).
@@ -53,7 +52,11 @@ func (x *Resolver) Ask(s string) (int, api.Errno) {
 }
 
 // Deliver takes packets (P6).
-func (x *Resolver) Deliver(packets ...api.Packet) {}
+func (x *Resolver) Deliver(packets ...api.Packet) {
+	for _, a := range arrivals(packets...) {
+		x.hear(a)
+	}
+}
 
 // Tick lets time go by (P6).
 func (x *Resolver) Tick() {

@@ -1,10 +1,14 @@
 package signpost
 
 import (
+	"slices"
+
 	"signpost/api"
 	"signpost/task"
 	"signpost/wire"
 )
+
+const firstID = 1
 
 func (x *Resolver) begin(t *task.Task) {
 	if x.work(t) {
@@ -23,13 +27,25 @@ func (x *Resolver) work(t *task.Task) bool {
 	return !step.Ended
 }
 
+// hear lets the task go on that has waited for what arrived, if there is one.
+func (x *Resolver) hear(a arrival) {
+	i := slices.IndexFunc(x.tasks, func(t *task.Task) bool { return t.IsAnsweredBy(a.from, a.message) })
+	if i < 0 {
+		return
+	}
+	t := x.tasks[i]
+	t.Hear(x.world, a.message)
+	if !x.work(t) {
+		x.tasks = slices.Delete(x.tasks, i, i+1)
+	}
+}
+
 func (x *Resolver) isOverdue(t *task.Task) bool {
 	return t.Waited(x.world.Now) >= x.world.Config.Patience
 }
 
 func (x *Resolver) send(address int, question api.Message) {
-	x.lastID = (x.lastID + 1) % (wire.MaxID + 1)
-	question.ID = x.lastID
+	x.world.NextID = (question.ID + 1) % (wire.MaxID + 1)
 	x.sent = append(x.sent, api.Packet{Address: address, Bytes: bytesOf(question)})
 }
 

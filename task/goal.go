@@ -4,6 +4,7 @@ import (
 	"slices"
 
 	"signpost/api"
+	"signpost/memory"
 )
 
 // goal is a name and a type that a task is to find out.
@@ -61,7 +62,7 @@ func (g *goal) recall(w World) (end, bool) {
 
 // recallNothing ends the goal if it is remembered that there is nothing.
 func (g *goal) recallNothing(w World) (end, bool) {
-	if e, ok := w.Memory.Live(w.Now, g.name, noSuchName); ok {
+	if e, ok := w.Memory.Live(w.Now, g.name, memory.NoSuchName); ok {
 		w.Memory.Use(e.Name, e.Type)
 		return end{code: api.Unknown}, true
 	}

@@ -5,6 +5,7 @@ import (
 	"testing"
 
 	"signpost/api"
+	"signpost/memory"
 )
 
 func TestAnswersAreTold(t *testing.T) {
@@ -60,9 +61,9 @@ func TestTheFirstOfSeveralAliasesLeadsOn(t *testing.T) {
 
 func TestAnAnswerGoesAheadOfAnAliasAndOfNothing(t *testing.T) {
 	a := addresses("a", answer, 10, 1)
-	w := world(a, alias("a", 20, "b"), nothing("a", noSuchName, answer, 20))
+	w := world(a, alias("a", 20, "b"), nothing("a", memory.NoSuchName, answer, 20))
 	wantEnd(t, begin("a", api.Address), w, api.Fine, told(10, a)...)
-	w = world(alias("a", 20, "b"), nothing("a", noSuchName, answer, 20), nothing("a", api.Address, answer, 20), nothing("b", noSuchName, answer, 5))
+	w = world(alias("a", 20, "b"), nothing("a", memory.NoSuchName, answer, 20), nothing("a", api.Address, answer, 20), nothing("b", memory.NoSuchName, answer, 5))
 	wantEnd(t, begin("a", api.Address), w, api.Unknown, told(20, alias("a", 0, "b"))...)
 }
 
@@ -73,7 +74,7 @@ func TestAliasesWithoutRecordsLeadNowhere(t *testing.T) {
 }
 
 func TestThatThereIsNothingIsTold(t *testing.T) {
-	w := world(nothing("a", noSuchName, answer, 20), nothing("a", api.Address, answer, 30), nothing("b", api.Server, answer, 20), alias("c", 40, "b"))
+	w := world(nothing("a", memory.NoSuchName, answer, 20), nothing("a", api.Address, answer, 30), nothing("b", api.Server, answer, 20), alias("c", 40, "b"))
 	wantEnd(t, begin("a", api.Address), w, api.Unknown)
 	wantEnd(t, begin("a", api.Alias), w, api.Unknown)
 	wantEnd(t, begin("b", api.Server), w, api.Fine)
@@ -119,7 +120,7 @@ func TestAnAliasThatRanOutIsNotToldWithUnknown(t *testing.T) {
 	k := begin("a", api.Address)
 	wantSend(t, k, w, 9, "b", api.Address)
 	w.Now = 5
-	w.remember(nothing("b", noSuchName, answer, 20), alias("a", 9, "b"))
+	w.remember(nothing("b", memory.NoSuchName, answer, 20), alias("a", 9, "b"))
 	wantEnd(t, k, w, api.Unknown, told(4, alias("a", 0, "b"))...)
 }
 

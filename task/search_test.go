@@ -6,6 +6,7 @@ import (
 	"testing"
 
 	"signpost/api"
+	"signpost/memory"
 )
 
 func TestFromTheRoot(t *testing.T) {
@@ -87,7 +88,7 @@ func TestTheGoalBelowLooksAgain(t *testing.T) {
 func TestServersThatAreAliases(t *testing.T) {
 	w := world(servers("b", "x.c"), alias("x.c", 3, "y.c"), addresses("y.c", answer, always, 5))
 	wantUnanswered(t, begin("a.b", api.Address), w, "9 a.b 1")
-	w = world(servers("b", "x.c", "y.c", "z.c"), nothing("x.c", noSuchName, answer, always), nothing("y.c", api.Address, answer, always), at("z.c", 4))
+	w = world(servers("b", "x.c", "y.c", "z.c"), nothing("x.c", memory.NoSuchName, answer, always), nothing("y.c", api.Address, answer, always), at("z.c", 4))
 	wantUnanswered(t, begin("a.b", api.Address), w, "4 a.b 1", "9 a.b 1")
 }
 
@@ -221,7 +222,7 @@ func wantForgotten(t *testing.T, w *World, want ...string) {
 func TestUses(t *testing.T) {
 	l := alias("a", always, "e")
 	e := addresses("e", answer, always, 1)
-	none, unknown := nothing("n", api.Address, answer, always), nothing("u", noSuchName, answer, always)
+	none, unknown := nothing("n", api.Address, answer, always), nothing("u", memory.NoSuchName, answer, always)
 	other := addresses("o", answer, always, 1)
 	for _, c := range []struct {
 		name string

@@ -5,6 +5,7 @@ import (
 	"slices"
 
 	"signpost/api"
+	"signpost/belief"
 )
 
 // Task is a question of a client that is being worked on.
@@ -13,12 +14,17 @@ type Task struct {
 	question api.Message
 	goals    []*goal // the last one is on top
 	sends    int
-	sentAt   int
+	waitsFor sent
+}
+
+// sent is a question that was sent, and to whom.
+type sent struct {
+	belief.Question
+	id, address int
 }
 
 // Step is what working on a task comes to: a question that is to be sent to an
-// address (and has no ID yet), or, if the task has ended, the reply to the
-// client.
+// address, or, if the task has ended, the reply to the client.
 type Step struct {
 	Ended   bool
 	Address int
@@ -33,7 +39,21 @@ func Begin(number int, question api.Message) *Task {
 
 // Waited tells for how long the task waits.
 func (t *Task) Waited(now int) int {
-	return now - t.sentAt
+	return now - t.waitsFor.At
+}
+
+// IsAnsweredBy tells whether a message from an address is the reply that the
+// task waits for.
+func (t *Task) IsAnsweredBy(from int, m api.Message) bool {
+	s := t.waitsFor
+	return m.Reply && from == s.address && m.ID == s.id && m.Name == s.Name && m.Type == s.Type
+}
+
+// Hear remembers what is believed of the reply that the task waits for.
+func (t *Task) Hear(w World, reply api.Message) {
+	for _, e := range t.waitsFor.Entries(w.Config.MaxTtl, reply) {
+		w.Memory.Store(w.Now, e)
+	}
 }
 
 // Work goes on with the task until it has something to send, or has ended.
@@ -92,10 +112,11 @@ func (t *Task) send(w World, g *goal, p place) Step {
 		return t.reply(w.Now, api.Failed)
 	}
 	t.sends++
-	t.sentAt = w.Now
 	g.tried[g.attemptAt(p)]++
 	w.use(p)
-	return Step{Address: p.address, Message: api.Message{Name: g.name, Type: g.kind}}
+	asked := belief.Question{Name: g.name, Type: g.kind, Zone: p.zone, At: w.Now}
+	t.waitsFor = sent{asked, w.NextID, p.address}
+	return Step{Address: p.address, Message: api.Message{ID: w.NextID, Name: g.name, Type: g.kind}}
 }
 
 // endGoal ends the goal on top, and the task with its last goal. An alias that

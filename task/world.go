@@ -5,24 +5,18 @@ import (
 	"signpost/memory"
 )
 
-const (
-	rankOfAnswers = 2
-
-	// noSuchName is the type of an entry that says that there is no such name.
-	noSuchName = 0
-)
-
 // World is what all tasks of a resolver work with.
 type World struct {
 	Config api.Config
 	Memory *memory.Memory
 	Now    int
+	NextID int // of the next question that is sent
 }
 
 // answer tells the live entry of a name and type, if it is an answer.
 func (w World) answer(name string, kind int) (api.Entry, bool) {
 	e, live := w.Memory.Live(w.Now, name, kind)
-	if !live || e.Rank != rankOfAnswers {
+	if !live || e.Rank != memory.Answer {
 		return api.Entry{}, false
 	}
 	return e, true
